@@ -447,7 +447,7 @@ func TestCheck(t *testing.T) {
 		{"accepted, and it has a ring of nothing", straight, api.Verdict{Accept: true, Order: []int{1, 2}, Ring: []api.Edge{{}}}, api.ErrProof},
 		{"accepted, and its ring has no edge", straight, api.Verdict{Accept: true, Order: []int{1, 2}, Ring: []api.Edge{}}, api.OK},
 		{"accepted, and something is tainted", dirty, accepted(0, 2, 3), api.ErrProof},
-		{"accepted, and something is tainted, with its ring", dirty, api.Verdict{Accept: true, Order: []int{2, 3}, Bad: dead}, api.ErrProof},
+		{"accepted, and something is tainted, with that taint", dirty, api.Verdict{Accept: true, Order: []int{2, 3}, Bad: dead}, api.ErrProof},
 		{"accepted, and there is a ring", lost(), accepted(0, 1, 2), api.ErrProof},
 		{"accepted, with the ring that is there", lost(), api.Verdict{Accept: true, Ring: ringed}, api.ErrProof},
 
@@ -795,6 +795,75 @@ func TestMadeAndForged(t *testing.T) {
 	s.often(t, 500)
 	if beside < 500 {
 		t.Errorf("too seldom: %d", beside)
+	}
+}
+
+// closing is a ring of some of the edges that may show something at a level: an edge leads on to those that begin where it ends, at Snapshot from a GOver to no other one; nothing, if there is none.
+func closing(level int, l []api.Edge) []api.Edge {
+	const entered, left = 1, 2
+	state := make([]int, len(l))
+	var path []api.Edge
+	var places []int
+	var search func(i int) []api.Edge
+	search = func(i int) []api.Edge {
+		state[i] = entered
+		path, places = append(path, l[i]), append(places, i)
+		for j, next := range l {
+			if next.From != l[i].To || level == api.Snapshot && l[i].Kind == api.GOver && next.Kind == api.GOver {
+				continue
+			}
+			if state[j] == entered {
+				return path[slices.Index(places, j):]
+			}
+			if state[j] == left {
+				continue
+			}
+			if ring := search(j); ring != nil {
+				return ring
+			}
+		}
+		state[i] = left
+		path, places = path[:len(path)-1], places[:len(places)-1]
+		return nil
+	}
+	for i := range l {
+		if state[i] != 0 {
+			continue
+		}
+		if ring := search(i); ring != nil {
+			return ring
+		}
+	}
+	return nil
+}
+
+// P13.3: where nothing is tainted, of all edges that hold there is a ring that is taken just if the history isn't good.
+func TestRingsOfAllThatHold(t *testing.T) {
+	r := rand.New(rand.NewSource(4))
+	s := &seen{}
+	for n := range 5000 {
+		h := wellFormed(r, 1+r.Intn(5), 16, 1+r.Intn(3), 1000)
+		if n%3 == 0 {
+			h = skewed(r, 2+r.Intn(4))
+		}
+		if len(taint.All(h)) > 0 {
+			continue
+		}
+		holds := holding(h)
+		for _, level := range levels {
+			ring := closing(level, holds)
+			if is := len(ring) == 0; is != good(h, level) {
+				t.Fatalf("of %v at %d: the ring %v", h, level, ring)
+			}
+			if e := held(t, h, round(level, ring...), s); (e == api.OK) != (len(ring) > 0) {
+				t.Fatalf("of %v at %d the ring %v: %d", h, level, ring, e)
+			}
+		}
+	}
+	for _, level := range levels {
+		if s.round[level] < 500 || s.refused[level] < 500 {
+			t.Errorf("too seldom: %+v", s)
+		}
 	}
 }
 
