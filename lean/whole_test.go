@@ -88,7 +88,7 @@ func TestByWords(t *testing.T) {
 			}
 		}
 	}
-	often(t, 300, append(bads[1:], found[1:]...)...)
+	often(t, 150, append(bads[1:], found[1:]...)...)
 }
 
 // shortEvents are few: two transactions that read and write two values of one key, and end, either way.
@@ -397,7 +397,7 @@ func TestTakenIsSo(t *testing.T) {
 			}
 		}
 	}
-	often(t, 50, slices.Concat(bads[1:], rings[1:], refused[1:])...)
+	often(t, 25, slices.Concat(bads[1:], rings[1:], refused[1:])...)
 }
 
 // R1: long rows of proofs, far more than there may be, and numbers of any size.
